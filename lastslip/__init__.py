@@ -1,0 +1,1 @@
+"""Lastslip: least automata on infinite words whose guesses are harmless."""

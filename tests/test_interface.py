@@ -1,0 +1,59 @@
+"""The names and parameters of the interface, and the files in which they are defined."""
+
+import importlib
+import inspect
+import unittest
+
+FUNCTIONS = {
+    "words": ["is_number(value, least, most)", "is_word(value, most=200)", "is_alphabet(value)",
+              "words_of(alphabet, most)"],
+    "components": ["components(automaton)", "normal(automaton)"],
+    "runs": ["accepting_run(automaton, lasso)", "accepts(automaton, lasso)"],
+    "trackers": ["determinize(automaton)", "pairs_of(automaton)", "after(automaton, word)"],
+    "relations": ["beyond(one, other)", "separating(one, other)", "within(one, other)", "same_words(one, other)",
+                  "accepted_word(automaton)", "refused_word(automaton)"],
+}
+CLASSES = {
+    "words": {"Lasso": ["__init__(self, prefix, loop)", "letter_at(self, index)", "start(self, many)",
+                        "letters(self)"]},
+    "automata": {"Automaton": ["__init__(self, alphabet, size, transitions, *, initial=0)", "moves(self, state, letter)",
+                               "targets(self, state, letter, word=None)", "transitions(self)", "reachable(self)",
+                               "renumbered(self, order)", "trimmed(self)", "begun_at(self, state)"]},
+    "runs": {"Run": ["__init__(self, states, turn)", "states(self)", "holds(self, automaton, lasso)"]},
+}
+OPERATORS = {"Lasso": ["__getitem__", "__radd__", "__rshift__", "__eq__", "__str__", "__repr__"],
+             "Automaton": ["__len__", "__eq__", "__repr__"], "Run": ["__eq__", "__repr__"]}
+CLASS_METHODS = {"Lasso": {"of_text": "(text)"}, "Automaton": {"deterministic": "(alphabet, rows, *, initial=0)"}}
+
+
+class InterfaceTest(unittest.TestCase):
+    def test_functions(self):
+        for name, written in FUNCTIONS.items():
+            module = importlib.import_module("lastslip." + name)
+            for text in written:
+                function = getattr(module, text.partition("(")[0])
+                self.assertEqual(function.__module__, "lastslip." + name)
+                self.assertEqual(function.__name__ + str(inspect.signature(function)), text)
+
+    def test_classes(self):
+        for name, classes in CLASSES.items():
+            module = importlib.import_module("lastslip." + name)
+            for title, written in classes.items():
+                made = getattr(module, title)
+                self.assertEqual(made.__module__, "lastslip." + name)
+                for text in written:
+                    method = vars(made)[text.partition("(")[0]]
+                    self.assertEqual(method.__name__ + str(inspect.signature(method)), text)
+                for operator in OPERATORS[title]:
+                    self.assertIn(operator, vars(made))
+                for method, text in CLASS_METHODS.get(title, {}).items():
+                    self.assertIsInstance(vars(made)[method], classmethod)
+                    self.assertEqual(str(inspect.signature(getattr(made, method))), text)
+
+    def test_the_property(self):
+        automata = importlib.import_module("lastslip.automata")
+        self.assertIsInstance(vars(automata.Automaton)["is_deterministic"], property)
+
+
+if __name__ == "__main__":
+    unittest.main()
