@@ -24,6 +24,20 @@ def explored(first, steps):
     return nodes, graph
 
 
+def travelled(first, letters, step):
+    """The rows (place, letter, next place) of all places that are found from the first one.
+
+    The function step gives the place behind a place and a letter.
+    """
+
+    def steps(place):
+        return [(letter, step(place, letter), True, True) for letter in letters]
+
+    places, graph = explored(first, steps)
+    return [(place, letter, places[target])
+            for place, arrows in zip(places, graph) for letter, target, _, _ in arrows]
+
+
 def _left_behind(targets, root, seen):
     """The new nodes that a search from the root finds, in the order in which it leaves them."""
     left = []
@@ -43,17 +57,37 @@ def _left_behind(targets, root, seen):
     return left
 
 
-def strong_parts(targets):
-    """The lots of nodes that lead to each other, as ascending lists, ordered by their least nodes."""
+def turned(targets):
+    """For each node the nodes that have it as a target."""
+    sources = [[] for _ in targets]
+    for node, row in enumerate(targets):
+        for target in row:
+            sources[target].append(node)
+    return sources
+
+
+def leading(targets, wanted):
+    """For each node whether it leads to a wanted one; wanted has a boolean for each node."""
+    sources = turned(targets)
+    seen = list(wanted)
+    waiting = [node for node, good in enumerate(wanted) if good]
+    while waiting:
+        node = waiting.pop()
+        for source in sources[node]:
+            if not seen[source]:
+                seen[source] = True
+                waiting.append(source)
+    return seen
+
+
+def ordered_parts(targets):
+    """The lots of nodes that lead to each other, as ascending lists; no part leads to an earlier one."""
     seen = [False] * len(targets)
     order = []
     for root in range(len(targets)):
         if not seen[root]:
             order.extend(_left_behind(targets, root, seen))
-    sources = [[] for _ in targets]
-    for node, row in enumerate(targets):
-        for target in row:
-            sources[target].append(node)
+    sources = turned(targets)
     fresh = [False] * len(targets)
     parts = []
     # What is left last is not reached from what was left before, so that backward searches in
@@ -61,7 +95,12 @@ def strong_parts(targets):
     for root in order[::-1]:
         if not fresh[root]:
             parts.append(sorted(_left_behind(sources, root, fresh)))
-    return sorted(parts)
+    return parts
+
+
+def strong_parts(targets):
+    """The lots of nodes that lead to each other, as ascending lists, ordered by their least nodes."""
+    return sorted(ordered_parts(targets))
 
 
 def part_numbers(targets):
@@ -71,6 +110,11 @@ def part_numbers(targets):
         for node in part:
             numbers[node] = number
     return numbers
+
+
+def targets_of(graph):
+    """For each node the targets of its arrows."""
+    return [[arrow[1] for arrow in row] for row in graph]
 
 
 def shortest_way(graph, first, last):
@@ -99,7 +143,7 @@ def endless_way(graph):
     All arrows of the circle stay, and the first one is marked. Each node is reached from the node 0.
     """
     staying = [[arrow for arrow in row if arrow[2]] for row in graph]
-    numbers = part_numbers([[arrow[1] for arrow in row] for row in staying])
+    numbers = part_numbers(targets_of(staying))
     for node, arrows in enumerate(staying):
         for letter, target, _, marked in arrows:
             if marked and numbers[node] == numbers[target]:

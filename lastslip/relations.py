@@ -3,7 +3,7 @@
 from lastslip.automata import Automaton
 from lastslip.errors import DifferentAlphabets
 from lastslip.graphs import endless_way, explored
-from lastslip.trackers import determinize
+from lastslip.trackers import beside, determinize
 from lastslip.words import Lasso
 
 
@@ -17,12 +17,7 @@ def _escape(automaton, tracker):
     """A lasso that the automaton accepts and the deterministic tracker does not, or None."""
 
     def steps(pair):
-        arrows = []
-        for letter in automaton.alphabet:
-            tracked, word = tracker.moves(pair[1], letter)[0]
-            for target, kind in automaton.moves(pair[0], letter):
-                arrows.append((letter, (target, tracked), kind == "safe", word == "slip"))
-        return arrows
+        return beside(automaton, tracker, pair)
 
     _, graph = explored((automaton.initial, tracker.initial), steps)
     found = endless_way(graph)

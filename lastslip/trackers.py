@@ -62,3 +62,16 @@ def after(automaton, word):
     for letter in word:
         state = tracker.targets(state, letter)[0]
     return tracker.begun_at(state).trimmed()
+
+
+def beside(automaton, tracker, pair):
+    """The arrows (letter, pair, safe, reset) from a state beside a state of a deterministic tracker.
+
+    A transition of the automaton is safe or not, and the tracker resets where it slips.
+    """
+    arrows = []
+    for letter in automaton.alphabet:
+        tracked, word = tracker.moves(pair[1], letter)[0]
+        for target, kind in automaton.moves(pair[0], letter):
+            arrows.append((letter, (target, tracked), kind == "safe", word == "slip"))
+    return arrows

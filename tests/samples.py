@@ -52,6 +52,28 @@ def some_automata(seed, many, alphabets=("ab",), sizes=(1, 2, 3, 4), more=4):
             for _ in range(many)]
 
 
+def random_deterministic(chance, alphabet, size, safe):
+    """A deterministic automaton with about so many safe transitions of ten."""
+    rows = [[(chance.randrange(size), "safe" if chance.randrange(10) < safe else "slip") for _ in alphabet]
+            for _ in range(size)]
+    return Automaton.deterministic(alphabet, rows, initial=chance.randrange(size))
+
+
+def doubled(chance, automaton):
+    """The automaton with two copies of each state; transitions go to one of the copies."""
+    size = automaton.size
+    rows = [(source + more, letter, target + chance.choice((0, size)), kind)
+            for more in (0, size) for source, letter, target, kind in automaton.transitions()]
+    return Automaton(automaton.alphabet, 2 * size, rows, initial=automaton.initial + chance.choice((0, size)))
+
+
+def mixed(chance, automaton):
+    """The automaton with its states in another order."""
+    order = list(range(automaton.size))
+    chance.shuffle(order)
+    return automaton.renumbered(order)
+
+
 def in_a_row(before, automaton):
     """The automaton behind a row of so many states, which all letters go through by safe transitions."""
     rows = [(state, letter, state + 1 if state + 1 < before else before + automaton.initial, "safe")
@@ -123,3 +145,7 @@ GREAT = [(many, written("ab", size, initial, text)) for many, size, initial, tex
     (69, 5, 3, "0a2! 0a3! 0b0! 0b4! 1a3 1b3 2a3 2a4 2b2 3a4! 3b0 4a1 4b0! 4b1!"),
     (136, 6, 2, "0a0 0b0 0b1 0b3! 0b4 1a1! 1a2 1b0! 1b1 1b2 2a3 2b3 3a5 3b2 3b4 4a1 4b0 4b5 5a4 5b1"),
 ]]
+# An automaton, and its least automaton, whose tracker has more than 65 states.
+NARROW = written("ab", 5, 3, "0a0 0b1 1a1 1b0! 1b2 2a1! 2b4 3a1 3b2 4a0 4b2 4b3")
+WIDE = written("ab", 8, 0, "0a1 0b0 1a1 1b5 2a4 2b0 3a4 3b5 4a4 4b6 5a6 5b2 6a6 6b7 "
+                           "7a0! 7a1! 7a2! 7a3! 7a4! 7a5! 7a6! 7a7! 7b3")

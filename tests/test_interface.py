@@ -12,6 +12,8 @@ FUNCTIONS = {
     "trackers": ["determinize(automaton)", "pairs_of(automaton)", "after(automaton, word)"],
     "relations": ["beyond(one, other)", "separating(one, other)", "within(one, other)", "same_words(one, other)",
                   "accepted_word(automaton)", "refused_word(automaton)"],
+    "papers": ["harmless(automaton)", "used(automaton, paper)"],
+    "least": ["least(automaton)", "least_paper(automaton)", "embedding(automaton, paper)"],
 }
 CLASSES = {
     "words": {"Lasso": ["__init__(self, prefix, loop)", "letter_at(self, index)", "start(self, many)",
@@ -20,9 +22,18 @@ CLASSES = {
                                "targets(self, state, letter, word=None)", "transitions(self)", "reachable(self)",
                                "renumbered(self, order)", "trimmed(self)", "begun_at(self, state)"]},
     "runs": {"Run": ["__init__(self, states, turn)", "states(self)", "holds(self, automaton, lasso)"]},
+    "surveys": {"Survey": ["__init__(self, automaton)", "kin(self, one, other)", "safe_within(self, one, other)",
+                           "below(self, one, other)", "alike(self, one, other)", "rank(self, state)",
+                           "is_safe(self, state, word)", "lasso_apart(self, one, other)",
+                           "word_apart(self, one, other)", "groups(self)", "kept(self)"]},
+    "papers": {"Harmless": ["__init__(self, tracker, moves, ranks)", "moves(self)", "ranks(self)", "told(self)",
+                            "holds(self, automaton)"],
+               "Harmful": ["__init__(self, tracker, letters, ranks)", "letters(self)", "ranks(self)", "told(self)",
+                           "holds(self, automaton)"]},
 }
 OPERATORS = {"Lasso": ["__getitem__", "__radd__", "__rshift__", "__eq__", "__str__", "__repr__"],
-             "Automaton": ["__len__", "__eq__", "__repr__"], "Run": ["__eq__", "__repr__"]}
+             "Automaton": ["__len__", "__eq__", "__repr__"], "Run": ["__eq__", "__repr__"],
+             "Survey": [], "Harmless": ["__eq__", "__repr__"], "Harmful": ["__eq__", "__repr__"]}
 CLASS_METHODS = {"Lasso": {"of_text": "(text)"}, "Automaton": {"deterministic": "(alphabet, rows, *, initial=0)"}}
 
 

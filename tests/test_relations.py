@@ -10,7 +10,7 @@ from lastslip.relations import accepted_word, beyond, refused_word, same_words, 
 from lastslip.trackers import determinize
 from lastslip.words import Lasso
 
-from samples import GREAT, raised, really_accepts, some_automata, writings
+from samples import GREAT, mixed, raised, really_accepts, some_automata, writings
 
 SHORT = writings("ab", 2, 3)
 PAIRS = (beyond, separating, within, same_words)
@@ -33,12 +33,6 @@ def one_changed(chance, automaton):
     source, letter, target, kind = rows[at]
     rows[at] = (source, letter, target, "slip" if kind == "safe" else "safe")
     return Automaton(automaton.alphabet, automaton.size, rows, initial=automaton.initial)
-
-
-def renumbered(chance, automaton):
-    order = list(range(automaton.size))
-    chance.shuffle(order)
-    return automaton.renumbered(order)
 
 
 class PairsTest(unittest.TestCase):
@@ -80,7 +74,7 @@ class PairsTest(unittest.TestCase):
     def test_written_otherwise(self):
         chance = random.Random(43)
         for automaton in some_automata(43, 30):
-            for late in (automaton, renumbered(chance, automaton), normal(automaton), automaton.trimmed(),
+            for late in (automaton, mixed(chance, automaton), normal(automaton), automaton.trimmed(),
                          determinize(automaton), determinize(determinize(automaton))):
                 for one, other in ((automaton, late), (late, automaton)):
                     self.assertIsNone(beyond(one, other))
