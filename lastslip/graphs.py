@@ -4,15 +4,16 @@ A graph is a list that has, for each node, the list of its arrows (letter, targe
 """
 
 
-def explored(first, steps):
+def explored(first, steps, most=None):
     """The nodes that are found from the first one, in order, and the graph of their numbers.
 
     The function steps gives the list of the arrows of a node, with a node in the place of its number.
+    If there are more nodes than most, neither the nodes nor the graph are complete.
     """
     nodes = [first]
     numbers = {first: 0}
     graph = []
-    while len(graph) < len(nodes):
+    while len(graph) < len(nodes) and (most is None or len(nodes) <= most):
         found = steps(nodes[len(graph)])
         arrows = []
         for letter, node, stays, marked in found:

@@ -7,7 +7,7 @@ from lastslip.trackers import beside, determinize
 from lastslip.words import Lasso
 
 
-def _check_alphabets(one, other):
+def check_alphabets(one, other):
     """Raises DifferentAlphabets if the alphabets differ."""
     if one.alphabet != other.alphabet:
         raise DifferentAlphabets()
@@ -29,13 +29,13 @@ def _escape(automaton, tracker):
 
 def beyond(one, other):
     """A lasso that the first automaton accepts and the second one does not, or None."""
-    _check_alphabets(one, other)
+    check_alphabets(one, other)
     return _escape(one, determinize(other))
 
 
 def separating(one, other):
     """A lasso that just one of the automata accepts, or None."""
-    _check_alphabets(one, other)
+    check_alphabets(one, other)
     # Both trackers come first: if one is too great, this is raised even where there is a lasso.
     first = determinize(one)
     second = determinize(other)

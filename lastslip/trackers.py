@@ -2,6 +2,7 @@
 
 from lastslip.automata import Automaton
 from lastslip.errors import InvalidWord, TooMany
+from lastslip.graphs import explored
 from lastslip.words import check_letters, is_word
 
 
@@ -21,23 +22,17 @@ def _next_pair(automaton, pair, letter):
 
 def _tracked(automaton):
     """The pairs of the tracker, and for each pair its row of (number of the target, kind)."""
+
+    def steps(pair):
+        found = [_next_pair(automaton, pair, letter) for letter in automaton.alphabet]
+        return [("", late, kind == "safe", True) for late, kind in found]
+
+    # There may be too many pairs to find them all before they are counted.
     first = ((automaton.initial,), (automaton.initial,))
-    pairs = [first]
-    numbers = {first: 0}
-    rows = []
-    while len(rows) < len(pairs):
-        row = []
-        for letter in automaton.alphabet:
-            pair, kind = _next_pair(automaton, pairs[len(rows)], letter)
-            if pair not in numbers:
-                # There may be too many pairs to find them all before they are counted.
-                if len(pairs) == Automaton.MOST:
-                    raise TooMany(Automaton.MOST)
-                numbers[pair] = len(pairs)
-                pairs.append(pair)
-            row.append((numbers[pair], kind))
-        rows.append(row)
-    return pairs, rows
+    pairs, graph = explored(first, steps, Automaton.MOST)
+    if len(pairs) > Automaton.MOST:
+        raise TooMany(Automaton.MOST)
+    return pairs, [[(target, "safe" if safe else "slip") for _, target, safe, _ in row] for row in graph]
 
 
 def determinize(automaton):

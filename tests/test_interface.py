@@ -14,6 +14,10 @@ FUNCTIONS = {
                   "accepted_word(automaton)", "refused_word(automaton)"],
     "papers": ["harmless(automaton)", "used(automaton, paper)"],
     "least": ["least(automaton)", "least_paper(automaton)", "embedding(automaton, paper)"],
+    "hands": ["slips_on(hand, lasso)", "safe_moves(hand)", "is_calm(hand, word)"],
+    "judging": ["judge(automaton, wanted)", "can_stand_for(automaton, wanted)"],
+    "boards": ["winner(board, automaton, start=0)", "plan(board, automaton, start=0)", "harm_board(automaton, paper)"],
+    "joins": ["both(one, other)", "either(one, other)", "behind(word, automaton)", "renamed(automaton, letters)"],
 }
 CLASSES = {
     "words": {"Lasso": ["__init__(self, prefix, loop)", "letter_at(self, index)", "start(self, many)",
@@ -30,11 +34,20 @@ CLASSES = {
                             "holds(self, automaton)"],
                "Harmful": ["__init__(self, tracker, letters, ranks)", "letters(self)", "ranks(self)", "told(self)",
                            "holds(self, automaton)"]},
+    "hands": {"Hand": ["__init__(self, automaton, paper)", "__call__(self, letter)", "read(self, word)",
+                       "preview(self, word)", "back(self)", "twin(self)"]},
+    "judging": {"Parted": ["__init__(self, lasso, accepted)", "told(self)", "holds(self, automaton, wanted)"]},
+    "boards": {"Board": ["__init__(self, owners, moves)", "owner(self, node)", "moves_of(self, node)", "letters(self)"],
+               "Plan": ["__init__(self, player, rows, ranks)", "rows(self)", "ranks(self)"]},
 }
 OPERATORS = {"Lasso": ["__getitem__", "__radd__", "__rshift__", "__eq__", "__str__", "__repr__"],
              "Automaton": ["__len__", "__eq__", "__repr__"], "Run": ["__eq__", "__repr__"],
-             "Survey": [], "Harmless": ["__eq__", "__repr__"], "Harmful": ["__eq__", "__repr__"]}
-CLASS_METHODS = {"Lasso": {"of_text": "(text)"}, "Automaton": {"deterministic": "(alphabet, rows, *, initial=0)"}}
+             "Survey": [], "Harmless": ["__eq__", "__repr__"], "Harmful": ["__eq__", "__repr__"],
+             "Hand": ["__len__", "__bool__", "__repr__"], "Parted": ["__eq__", "__repr__"],
+             "Board": ["__len__", "__eq__", "__repr__"], "Plan": ["__len__", "__repr__"]}
+CLASS_METHODS = {"Lasso": {"of_text": "(text)"}, "Automaton": {"deterministic": "(alphabet, rows, *, initial=0)"},
+                 "Hand": {"of": "(automaton)", "of_least": "(automaton)"}}
+PROPERTIES = {"automata": {"Automaton": ["is_deterministic"]}, "hands": {"Hand": ["place", "tracked", "slips", "resets"]}}
 
 
 class InterfaceTest(unittest.TestCase):
@@ -61,9 +74,12 @@ class InterfaceTest(unittest.TestCase):
                     self.assertIsInstance(vars(made)[method], classmethod)
                     self.assertEqual(str(inspect.signature(getattr(made, method))), text)
 
-    def test_the_property(self):
-        automata = importlib.import_module("lastslip.automata")
-        self.assertIsInstance(vars(automata.Automaton)["is_deterministic"], property)
+    def test_properties(self):
+        for name, classes in PROPERTIES.items():
+            module = importlib.import_module("lastslip." + name)
+            for title, names in classes.items():
+                for one in names:
+                    self.assertIsInstance(vars(getattr(module, title))[one], property)
 
 
 if __name__ == "__main__":
