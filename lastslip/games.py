@@ -83,7 +83,7 @@ class Game:
         self._spread(waiting)
 
     def _is_good(self, arrow):
-        """Whether the arrow is a reply to all choices of the opponent."""
+        """Whether the hand wins by the arrow, as far as is known: it may lead back by a reset."""
         return self._ranks[arrow[1]] is not None or (arrow[3] and self._lost[arrow[1]] is None)
 
     def _least_rank(self, number):
@@ -131,7 +131,8 @@ class Game:
         waiting = list(drawn)
         at = 0
         while at < len(waiting):
-            for number, arrow in self._sources[waiting[at]]:
+            node = waiting[at]
+            for number, arrow in self._sources[node]:
                 if number in counts and _is_calm(arrow):
                     counts[number] -= 1
                     source = self._options[number][0]

@@ -116,7 +116,6 @@ class Survey:
 
     def lasso_apart(self, one, other):
         """A lasso that is an infinite word of just one of the states, or None."""
-        self._check([one, other])
         return separating(self.automaton.begun_at(one), self.automaton.begun_at(other))
 
     def word_apart(self, one, other):
@@ -144,7 +143,8 @@ class Survey:
         seen = {self.automaton.initial: True}
         at = 0
         while at < len(states):
-            for target, _ in self._steps[states[at]]:
+            state = states[at]
+            for target, _ in self._steps[state]:
                 if target not in seen:
                     seen[target] = True
                     states.append(target)

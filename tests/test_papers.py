@@ -48,6 +48,8 @@ class ValuesTest(unittest.TestCase):
 
     def test_told_and_repr(self):
         self.assertEqual([Harmless(ONE, [], []).told(), Harmful(None, 7, "a").told()], ["harmless", "harmful"])
+        self.assertEqual([repr(Harmless(ONE, None, [])), repr(Harmful(5, "a", [()]))],
+                         ["harmless with 0 rows", "harmful with 0 rows"])
         for many in (0, 1, 2, 15):
             rows = [(0, 0, "a", 0)] * many
             self.assertEqual(repr(Harmless(ONE, rows, [(0, 0, 0)])), f"harmless with {many} rows")
