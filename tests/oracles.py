@@ -163,3 +163,69 @@ def harmful_holds(automaton, tracker, letters, ranks, lassos):
             if fall < (1 if word == "slip" else 0) or (fall == 0 and kind == "safe" and down < 1):
                 return False
     return _words_within(tracker, automaton, lassos)
+
+
+def _is_sequence(words, loop):
+    """Whether some end of the loop, repeated for ever, is a sequence of the words."""
+    many = len(loop)
+    endless = loop * 8
+    leads = {at: {(at + len(word)) % many for word in words if endless[at:at + len(word)] == word}
+             for at in range(many)}
+    lasting = set(leads)
+    for _ in leads:
+        lasting = {at for at in lasting if leads[at] & lasting}
+    return bool(lasting)
+
+
+def wish_has(text, prefix, loop, table=None):
+    """Whether the set of a wish has the infinite word of a prefix and a loop; the table has texts of names."""
+    stack = []
+    for token in text.split(" "):
+        form, _, rest = token.partition(":")
+        if token in ("both", "either"):
+            other, one = stack.pop(), stack.pop()
+            join = {"both": all, "either": any}[token]
+            stack.append(lambda start, circle, parts=(one, other), join=join:
+                         join([part(start, circle) for part in parts]))
+        elif form == token:
+            stack.append(lambda start, circle, name=token: wish_has(table[name], start, circle, table))
+        elif form == "never":
+            stack.append(lambda start, circle, words=rest.split(","):
+                         not any(word in circle * (len(word) + 1) for word in words))
+        elif form == "blocks":
+            stack.append(lambda start, circle, words=rest.split(","): _is_sequence(words, circle))
+        else:
+            stack.append(lambda start, circle, word=rest, part=stack.pop():
+                         _goes_on(start, circle, word, part))
+    return stack.pop()(prefix, loop)
+
+
+def _goes_on(start, circle, word, part):
+    """Whether an infinite word begins with a word, and its rest is in the set of a part."""
+    while len(start) < len(word):
+        start += circle
+    return start.startswith(word) and part(start[len(word):], circle)
+
+
+def real_never(words, alphabet):
+    """The automaton of `never`, by the words of the document."""
+    states = sorted({word[:many] for word in words for many in range(len(word))})
+    rows = []
+    for source, state in enumerate(states):
+        for letter in alphabet:
+            ends = [late for late in states if (state + letter).endswith(late)]
+            kind = "slip" if any((state + letter).endswith(word) for word in words) else "safe"
+            rows.append((source, letter, states.index(max(ends, key=len)), kind))
+    return Automaton(alphabet, len(states), rows)
+
+
+def real_blocks(words, alphabet):
+    """The automaton of `blocks`, by the words of the document."""
+    states = sorted({word[:many] for word in words for many in range(len(word))})
+    rows = []
+    for source, state in enumerate(states):
+        for letter in alphabet:
+            if state + letter in states:
+                rows.append((source, letter, states.index(state + letter), "safe"))
+            rows.append((source, letter, 0, "safe" if state + letter in words else "slip"))
+    return Automaton(alphabet, len(states), rows)

@@ -149,3 +149,8 @@ GREAT = [(many, written("ab", size, initial, text)) for many, size, initial, tex
 NARROW = written("ab", 5, 3, "0a0 0b1 1a1 1b0! 1b2 2a1! 2b4 3a1 3b2 4a0 4b2 4b3")
 WIDE = written("ab", 8, 0, "0a1 0b0 1a1 1b5 2a4 2b0 3a4 3b5 4a4 4b6 5a6 5b2 6a6 6b7 "
                            "7a0! 7a1! 7a2! 7a3! 7a4! 7a5! 7a6! 7a7! 7b3")
+# Wishes, and how many states the trackers of their automata over ab have.
+GREAT_TEXTS = [(64, "blocks:aaabb,abbab,baaab,babbb"), (65, "blocks:aaab,ab,babbbb,bbabba"),
+               (65, "blocks:aaaaaa,abaa,babbb,bbaa"), (66, "blocks:aaa,ababbb,baaab,bbaabb"),
+               (66, "blocks:aababa,ababb,abbbbb,baaa"), (67, "blocks:aabaa,abaaaa,baaaab"),
+               (68, "blocks:abbaba,baaaa,bbaaba,bbabba")]

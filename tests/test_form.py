@@ -148,7 +148,7 @@ class NamesTest(unittest.TestCase):
                 self.assertIn(node.func.attr, METHODS | own, at(path, node))
 
     def test_attributes_that_are_read_are_assigned(self):
-        assigned = {node.attr for _, node in nodes(ast.Attribute) if isinstance(node.ctx, ast.Store)}
+        assigned = {node.attr for _, node in nodes(ast.Attribute) if isinstance(node.ctx, ast.Store)} | {"setter"}
         for _, node in nodes(ast.ClassDef):
             assigned |= {part.name for part in node.body if isinstance(part, ast.FunctionDef)}
             assigned |= {part.targets[0].id for part in node.body if isinstance(part, ast.Assign)}
@@ -161,7 +161,28 @@ class NamesTest(unittest.TestCase):
             stored = {node.attr for node in ast.walk(made)
                       if isinstance(node, ast.Attribute) and isinstance(node.ctx, ast.Store)}
             self.assertFalse(methods & stored, at(path, made))
-            self.assertEqual(len(methods), sum(isinstance(part, ast.FunctionDef) for part in made.body))
+            parts = [part for part in made.body if isinstance(part, ast.FunctionDef)]
+            setters = [part for part in parts
+                       if any(ast.unparse(decorator).endswith(".setter") for decorator in part.decorator_list)]
+            self.assertEqual(len(methods), len(parts) - len(setters))
+
+
+    def test_names_of_methods_properties_and_attributes_differ(self):
+        parts = [(path, part) for path, made in nodes(ast.ClassDef) for part in made.body
+                 if isinstance(part, ast.FunctionDef)]
+        decorated = {part.name for _, part in parts if part.decorator_list}
+        plain = {part.name for _, part in parts if not part.decorator_list}
+        stored = {node.attr for _, node in nodes(ast.Attribute) if isinstance(node.ctx, ast.Store)}
+        self.assertFalse(decorated & plain)
+        self.assertFalse(plain & stored)
+        # The only property that is assigned has a setter wherever it stands.
+        self.assertLessEqual(decorated & stored, {"limit"})
+
+    def test_generators_have_names_of_their_own(self):
+        made = [node for _, node in nodes(ast.FunctionDef)]
+        for path, node in nodes(ast.FunctionDef):
+            if any(isinstance(part, (ast.Yield, ast.YieldFrom)) for part in ast.walk(node)):
+                self.assertEqual([other for other in made if other.name == node.name], [node], at(path, node))
 
 
 class SyntaxTest(unittest.TestCase):
@@ -218,6 +239,30 @@ class SyntaxTest(unittest.TestCase):
         for path, node in nodes(ast.Raise):
             self.assertTrue(node.exc is None or isinstance(node.exc, ast.Call), at(path, node))
 
+    def test_only_own_errors_are_caught(self):
+        own = {node.name for _, node in nodes(ast.ClassDef)}
+        for path, node in nodes(ast.ExceptHandler):
+            self.assertIsNotNone(node.type, at(path, node))
+            names = node.type.elts if isinstance(node.type, ast.Tuple) else [node.type]
+            self.assertLessEqual({name.id for name in names}, own, at(path, node))
+
+    def test_finally_assigns_literals_to_attributes(self):
+        for path, node in nodes(ast.Try):
+            for part in node.finalbody:
+                self.assertIsInstance(part, ast.Assign, at(path, part))
+                self.assertIsInstance(part.value, ast.Constant, at(path, part))
+                self.assertIsInstance(part.targets[0], ast.Attribute, at(path, part))
+
+    def test_what_is_changed_is_not_iterated_over(self):
+        changes = ("append", "clear", "extend", "insert", "pop", "remove", "reverse", "setdefault", "update")
+        for path, node in nodes(ast.For):
+            over = {ast.unparse(part) for part in ast.walk(node.iter) if isinstance(part, (ast.Name, ast.Attribute))}
+            for part in [part for row in node.body for part in ast.walk(row)]:
+                if isinstance(part, ast.Subscript) and not isinstance(part.ctx, ast.Load):
+                    self.assertNotIn(ast.unparse(part.value), over, at(path, part))
+                if isinstance(part, ast.Call) and isinstance(part.func, ast.Attribute) and part.func.attr in changes:
+                    self.assertNotIn(ast.unparse(part.func.value), over, at(path, part))
+
     def test_is_is_used_with_constants(self):
         for path, node in nodes(ast.Compare):
             for sign, right in zip(node.ops, node.comparators):
@@ -235,6 +280,16 @@ class DoubleTest(unittest.TestCase):
                 self.assertTrue(isinstance(last, ast.Return), at(path, node))
             if node.name == "__init__":
                 self.assertFalse([part for part in ast.walk(node) if isinstance(part, ast.Return)], at(path, node))
+
+    def test_operators_have_plain_parameters(self):
+        for path, made in nodes(ast.ClassDef):
+            for part in made.body:
+                if isinstance(part, ast.FunctionDef) and part.name.startswith("__") and part.name != "__init__":
+                    self.assertFalse(part.args.defaults or part.args.vararg or part.args.kwonlyargs, at(path, part))
+                    names = [name.arg for name in part.args.args[1:]]
+                    self.assertIn(names, ([], ["other"], ["at"], ["x"], ["at", "worth"], ["letter"], ["line"]))
+                if isinstance(part, ast.FunctionDef) and part.name == "__iter__":
+                    self.assertRegex(ast.unparse(part.body[-1]), r"^(return iter\(self(\.\w+)+\)|raise TypeError)")
 
     def test_a_class_with_an_index_is_not_iterated_over_by_chance(self):
         for path, node in nodes(ast.ClassDef):

@@ -18,6 +18,9 @@ FUNCTIONS = {
     "judging": ["judge(automaton, wanted)", "can_stand_for(automaton, wanted)"],
     "boards": ["winner(board, automaton, start=0)", "plan(board, automaton, start=0)", "harm_board(automaton, paper)"],
     "joins": ["both(one, other)", "either(one, other)", "behind(word, automaton)", "renamed(automaton, letters)"],
+    "wishes": ["is_name(value)", "read_wish(text)"],
+    "texts": ["automaton_text(automaton)", "read_automaton(text)"],
+    "pages": ["library_page(library)", "read_page(text)", "table_of(automaton)"],
 }
 CLASSES = {
     "words": {"Lasso": ["__init__(self, prefix, loop)", "letter_at(self, index)", "start(self, many)",
@@ -39,15 +42,43 @@ CLASSES = {
     "judging": {"Parted": ["__init__(self, lasso, accepted)", "told(self)", "holds(self, automaton, wanted)"]},
     "boards": {"Board": ["__init__(self, owners, moves)", "owner(self, node)", "moves_of(self, node)", "letters(self)"],
                "Plan": ["__init__(self, player, rows, ranks)", "rows(self)", "ranks(self)"]},
+    "wishes": {"Wish": ["tokens(self)", "text(self)", "names(self)", "needed(self)",
+                        "compiled(self, alphabet, table=None)"],
+               "Never": ["__init__(self, *words)"], "Blocks": ["__init__(self, *words)"],
+               "Behind": ["__init__(self, word, part)"], "Both": ["__init__(self, one, other)"],
+               "Either": ["__init__(self, one, other)"], "Named": ["__init__(self, name)"]},
+    "languages": {"Language": ["__init__(self, automaton)", "accepts(self, lasso)", "example(self)", "gap(self)",
+                               "within(self, other)", "apart(self, other)", "common(self, *others)",
+                               "union(self, *others)", "begun(self, word)", "rest(self, word)"]},
+    "watches": {"Watch": ["__init__(self, language, *, limit=200)", "set_limit(self, value)", "feed(self, *words)",
+                          "undo(self)", "redo(self)", "history(self)", "text(self)", "rest(self)", "verdict(self)",
+                          "accepts(self, lasso)", "twin(self)"]},
+    "library": {"Library": ["__init__(self, alphabet, *, limit=6)", "set_limit(self, value)", "apply(self, *commands)",
+                            "put(self, name, text)", "change(self, name, text)", "drop(self, name)",
+                            "rename(self, name, late)", "names(self)", "wish_of(self, name)", "users(self, name)",
+                            "touched(self, name)", "automaton_of(self, name)", "language_of(self, name)", "kept(self)",
+                            "same(self)", "undo(self)", "redo(self)", "history(self)", "twin(self)"]},
+    "desk": {"Desk": ["__init__(self, library)", "answer(self, line)", "__call__(self, line)", "log(self)"]},
 }
 OPERATORS = {"Lasso": ["__getitem__", "__radd__", "__rshift__", "__eq__", "__str__", "__repr__"],
              "Automaton": ["__len__", "__eq__", "__repr__"], "Run": ["__eq__", "__repr__"],
              "Survey": [], "Harmless": ["__eq__", "__repr__"], "Harmful": ["__eq__", "__repr__"],
              "Hand": ["__len__", "__bool__", "__repr__"], "Parted": ["__eq__", "__repr__"],
-             "Board": ["__len__", "__eq__", "__repr__"], "Plan": ["__len__", "__repr__"]}
+             "Board": ["__len__", "__eq__", "__repr__"], "Plan": ["__len__", "__repr__"],
+             "Wish": ["__and__", "__or__", "__eq__", "__repr__"],
+             "Language": ["__len__", "__bool__", "__eq__", "__repr__"], "Watch": ["__len__", "__bool__", "__repr__"],
+             "Library": ["__contains__", "__getitem__", "__setitem__", "__iter__", "__len__", "__bool__", "__eq__",
+                         "__repr__"], "Desk": ["__len__", "__bool__", "__repr__"]}
 CLASS_METHODS = {"Lasso": {"of_text": "(text)"}, "Automaton": {"deterministic": "(alphabet, rows, *, initial=0)"},
-                 "Hand": {"of": "(automaton)", "of_least": "(automaton)"}}
-PROPERTIES = {"automata": {"Automaton": ["is_deterministic"]}, "hands": {"Hand": ["place", "tracked", "slips", "resets"]}}
+                 "Hand": {"of": "(automaton)", "of_least": "(automaton)"},
+                 "Language": {"of_wish": "(alphabet, text)", "whole": "(alphabet)"}}
+PROPERTIES = {"automata": {"Automaton": ["is_deterministic"]}, "hands": {"Hand": ["place", "tracked", "slips", "resets"]},
+              "watches": {"Watch": ["limit", "place", "slips", "resets"]},
+              "library": {"Library": ["limit", "busy", "computed"]}}
+# The properties that can be assigned, and the values that belong to classes.
+SETTERS = {"watches": {"Watch": ["limit"]}, "library": {"Library": ["limit"]}}
+VALUES = {"words": {"Lasso": {"MOST": 10000}}, "automata": {"Automaton": {"MOST": 65}}, "boards": {"Board": {"MOST": 20000}},
+          "watches": {"Watch": {"MOST": 1000}}, "library": {"Library": {"MOST": 12}}}
 
 
 class InterfaceTest(unittest.TestCase):
@@ -68,7 +99,7 @@ class InterfaceTest(unittest.TestCase):
                 for text in written:
                     method = vars(made)[text.partition("(")[0]]
                     self.assertEqual(method.__name__ + str(inspect.signature(method)), text)
-                for operator in OPERATORS[title]:
+                for operator in OPERATORS.get(title, []):
                     self.assertIn(operator, vars(made))
                 for method, text in CLASS_METHODS.get(title, {}).items():
                     self.assertIsInstance(vars(made)[method], classmethod)
@@ -79,7 +110,16 @@ class InterfaceTest(unittest.TestCase):
             module = importlib.import_module("lastslip." + name)
             for title, names in classes.items():
                 for one in names:
-                    self.assertIsInstance(vars(getattr(module, title))[one], property)
+                    found = vars(getattr(module, title))[one]
+                    self.assertIsInstance(found, property)
+                    self.assertIs(found.fset is not None, one in SETTERS.get(name, {}).get(title, []))
+
+    def test_values_of_classes(self):
+        for name, classes in VALUES.items():
+            for title, values in classes.items():
+                made = getattr(importlib.import_module("lastslip." + name), title)
+                for one, value in values.items():
+                    self.assertEqual(vars(made)[one], value)
 
 
 if __name__ == "__main__":
