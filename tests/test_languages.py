@@ -92,7 +92,7 @@ class MadeTest(unittest.TestCase):
             self.assertEqual(language.least.transitions(), [(0, letter, 0, "safe") for letter in alphabet])
             self.assertEqual(language.tracker, language.least)
         self.assertEqual(Language.whole(alphabet="ab"), Language(ALL))
-        for value in ["", "ba", "aa", "abcd", "A", "a b", *WRONG_STRINGS]:
+        for value in ["", "ba", "aa", "abcd", "A", "a b", *WRONG_STRINGS, *NOTHINGS, *NUMBERS]:
             raised(self, InvalidAlphabet, {"given": value}, Language.whole, value)
 
 
