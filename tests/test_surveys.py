@@ -11,7 +11,7 @@ from lastslip.words import Lasso
 
 from oracles import accepted_lassos, real_components, real_safe_words
 from samples import (NOTHINGS, WRONG_STRINGS, doubled, raised, random_automaton, random_deterministic, strings,
-                     writings)
+                     writings, written)
 
 SHORT = writings("ab", 2, 3)
 MOST = 5
@@ -194,6 +194,16 @@ class ListsTest(unittest.TestCase):
         self.assertEqual(Survey(automaton).kept(), [[1]])
         self.assertEqual(Survey(automaton).groups(), [[0, 1, 2]])
         self.assertEqual(Survey(automaton.begun_at(2)).kept(), [[1]])
+
+    def test_tied_components_with_states_between_each_other(self):
+        # The letter b only finitely often: the letter a goes round 0 and 3, or 1 and 2, or 4.
+        for initial in range(5):
+            automaton = written("ab", 5, initial, "0a3 0b1! 3a0 3b2! 1a2 1b4! 2a1 2b0! 4a4 4b3!")
+            self.assertEqual(Survey(automaton).kept(), [[0, 3]])
+            self.assertEqual(Survey(automaton).groups(), [[0, 1, 2, 3, 4]])
+        late = written("ab", 4, 0, "0a3 0b1! 3a0 3b2! 1a2 1b0! 2a1 2b3!")
+        self.assertEqual(Survey(late).kept(), [[0, 3]])
+        self.assertEqual(Survey(late.renumbered([1, 0, 3, 2])).kept(), [[0, 3]])
 
     def test_the_lists_are_new(self):
         for automaton in deterministic(59, 10):

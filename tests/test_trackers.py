@@ -48,6 +48,12 @@ class DeterminizeTest(unittest.TestCase):
             self.assertEqual(automaton.transitions(), before)
         self.assertGreater(found, 80)
 
+    def test_pairs_of_many_states(self):
+        # The tuples ascend, also where there are more than eight states.
+        rows = [(0, "a", target, "safe" if target in (16, 8, 9) else "slip") for target in (33, 16, 8, 1, 64, 9)]
+        rows += [(state, "a", state, "safe") for state in range(1, 65)]
+        self.assertEqual(pairs_of(Automaton("a", 65, rows)), [((0,), (0,)), ((1, 8, 9, 16, 33, 64), (8, 9, 16))])
+
     def test_a_deterministic_automaton_gets_other_numbers(self):
         automaton = Automaton.deterministic("ab", [[(0, "safe"), (1, "slip")], [(0, "slip"), (3, "safe")],
                                                    [(2, "safe"), (2, "safe")], [(3, "safe"), (0, "slip")]], initial=1)
